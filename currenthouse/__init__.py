@@ -1,0 +1,1 @@
+"""Whose current it is: see currenthouse.house.answers."""
