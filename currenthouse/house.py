@@ -110,8 +110,8 @@ def ask_ringless(net, arguments):
     return [0, 0 if has_ring(net) else 1]
 
 
+# 0 stands for no refusal.
 def refusal_of_node(net, node):
-    """The refusal's number, or 0 where a sound net's node may be asked of."""
     if node > net.nodes:
         return NO_SUCH_NODE
     if not is_sound(net):
@@ -119,8 +119,8 @@ def refusal_of_node(net, node):
     return 0
 
 
+# fractions has one for each node.
 def told(net, fractions):
-    """0, and behind it each node's fraction."""
     answer = [0]
     for node in net.made:
         answer.extend(fractions[node])

@@ -4,12 +4,9 @@ from currenthouse.net import flow_order, through
 from currenthouse.ratio import divided, plus_times
 
 
+# For each node, its part of what goes through this one. own is what this node adds itself;
+# parts are pairs of what comes over a line and the mixture at the line's other end.
 def mixed(net, node, own, parts):
-    """For each node, its part of what goes through this one.
-
-    own is what this node adds itself; parts are pairs of what comes over a line and the
-    mixture at the line's other end.
-    """
     amount_through = through(net, node)
     mixture = {}
     for other in net.made:
@@ -20,8 +17,8 @@ def mixed(net, node, own, parts):
     return mixture
 
 
+# In what is given back, [i][a] is a's share of node i.
 def shares(net):
-    """found[i][a] is a's share of node i."""
     found = {}
     for node in flow_order(net):
         # Where nothing comes, the line's first node may not have been worked out (nothing need be sent).
@@ -30,8 +27,8 @@ def shares(net):
     return found
 
 
+# In what is given back, [i][b] is i's end in b.
 def ends(net):
-    """found[i][b] is i's end in b."""
     found = {}
     for node in reversed(flow_order(net)):
         parts = [(line.comes, found[line.to]) for line in net.lines if line.origin == node and line.comes > 0]

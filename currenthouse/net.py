@@ -10,9 +10,8 @@ class Line:
         self.fee = 0
 
 
+# Nodes are keys from 1 on; line number k is lines[k - 1]. Without nodes the house isn't open yet.
 class Net:
-    """Nodes are keys from 1 on; line number k is lines[k - 1]. Without nodes the house isn't open yet."""
-
     def __init__(self):
         self.nodes = 0
         self.made = {}
@@ -48,8 +47,8 @@ def must_wait(net, node, placed):
     return False
 
 
+# The nodes, each behind all those that send to it; nodes on a ring or behind one never get a place.
 def flow_order(net):
-    """The nodes, each behind all those that send to it; nodes on a ring or behind one never get a place."""
     placed = []
     # Each turn places at least one node, if any can be placed at all, so there are turns enough.
     for turn in range(net.nodes):

@@ -14,14 +14,14 @@ def lowest(top, bottom):
     return (top // divisor, bottom // divisor)
 
 
+# Answers fraction + amount * other, in one step so that it is brought to lowest terms once.
 def plus_times(fraction, amount, other):
-    """fraction + amount * other, amount being a whole number."""
     top = fraction[0] * other[1] + amount * other[0] * fraction[1]
     return lowest(top, fraction[1] * other[1])
 
 
 def divided(fraction, amount):
-    """fraction / amount; 0 if amount is 0, as the document has it where nothing goes through a node."""
+    # The document has it so where nothing goes through a node.
     if amount == 0:
         return (0, 1)
     return lowest(fraction[0], fraction[1] * amount)

@@ -95,6 +95,7 @@ class Form(unittest.TestCase):
         for where, node in self.walked():
             if isinstance(node, (ast.FunctionDef, ast.ClassDef)):
                 self.assertEqual(node.decorator_list, [], where)
+                self.assertIsNone(ast.get_docstring(node), where)
             if isinstance(node, ast.FunctionDef):
                 self.assertLessEqual(node.end_lineno - node.lineno + 1, 40, where)
                 self.assertIsNone(node.args.vararg or node.args.kwarg or node.returns, where)
@@ -102,7 +103,8 @@ class Form(unittest.TestCase):
 
     def test_names(self):
         for name, tree in self.trees.items():
-            imported = {alias.name for node in ast.walk(tree) if isinstance(node, ast.ImportFrom) for alias in node.names}
+            imports = [node for node in ast.walk(tree) if isinstance(node, ast.ImportFrom)]
+            imported = {alias.name for node in imports for alias in node.names}
             top = [node.targets[0].id for node in tree.body if isinstance(node, ast.Assign)]
             top += [node.name for node in tree.body if isinstance(node, (ast.FunctionDef, ast.ClassDef))]
             self.assertEqual(len(top), len(set(top)), name)
