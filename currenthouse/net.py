@@ -1,4 +1,4 @@
-"""The net that a house keeps, and what its balance and its rings are."""
+"""The net that a house keeps; its balance, its rings and its ways."""
 
 
 class Line:
@@ -25,6 +25,9 @@ class Net:
             self.made[node] = 0
             self.used[node] = 0
             self.rates[node] = 0
+
+    def line(self, number):
+        return self.lines[number - 1]
 
 
 def through(net, node):
@@ -64,3 +67,15 @@ def has_ring(net):
 
 def is_sound(net):
     return is_balanced(net) and not has_ring(net)
+
+
+# The net must be without a ring: then all ways to a node are counted before those over it are.
+def ways(net, origin, to):
+    counts = {}
+    for node in net.made:
+        counts[node] = 1 if node == origin else 0
+    for node in flow_order(net):
+        for line in net.lines:
+            if line.origin == node and line.comes > 0:
+                counts[line.to] = counts[line.to] + counts[node]
+    return counts[to]

@@ -25,3 +25,23 @@ def divided(fraction, amount):
     if amount == 0:
         return (0, 1)
     return lowest(fraction[0], fraction[1] * amount)
+
+
+def times(amount, fraction):
+    return lowest(amount * fraction[0], fraction[1])
+
+
+# pairs are of an amount and a fraction.
+def sum_of_products(pairs):
+    total = (0, 1)
+    for amount, fraction in pairs:
+        total = plus_times(total, amount, fraction)
+    return total
+
+
+# Whole numbers that are to one another as the fractions are.
+def in_whole_numbers(fractions):
+    common = 1
+    for fraction in fractions:
+        common = common * (fraction[1] // greatest_divisor(common, fraction[1]))
+    return [fraction[0] * (common // fraction[1]) for fraction in fractions]

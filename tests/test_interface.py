@@ -4,13 +4,20 @@ import unittest
 
 from currenthouse.house import answers
 from tests.asking import (
-    ENDS, EXCESSES, FEE, FLOW, GREATEST, LINE, MADE, MIX, OPEN, RATE, RINGLESS, USED,
-    Draw, Reckoning, ask, flat, net, reckoned,
+    ENDS, EXCESSES, FEE, FEES, FEES_OF_USE, FLOW, FROM, GREATEST, LINE, LINE_IS, LOST, MADE, MIX, OPEN, OVER, RATE,
+    RINGLESS, STATE, USED, WAYS, WEIGHT, WEIGHTS, Draw, Reckoning, ask, flat, net, reckoned,
 )
 
-WHOLE = [0, 3, 2, 1, 7, 1, 1, 2, 4, 1, 7, 5, 3, 2, 6, 7, 2, 2, 1, 8, 9, 2, 10, 1, 5, 1, -4, 6, 1, 9, 9, 4, 0, 3]
+# Every call once at the least, number by number.
+WHOLE = [0, 3, 2, 1, 7, 1, 1, 2, 4, 1, 7, 5, 3, 2, 6, 7, 2, 2, 1, 8, 9, 2, 10, 1, 5, 1, -4, 6, 1, 9, 9, 4, 0, 3,
+         11, 1, 2, 12, 1, 13, 1, 14, 2, 15, 16, 17, 18, 1, 2, 19, 1, 20, 12, 2]
 ANSWERED = [1, 0, 1, 0, 2, 0, 1, 1, 0, 1, 0, 4, 0, 0, -1, 0, 1, 0, 2, 0, 1, 7, 0, 5, 6, 1, 6, 0, 1,
-            7, 0, 0, 1, 5, 7, 0, 1, 1, 0, 1, 0, 1, -5, 1, -3]
+            7, 0, 0, 1, 5, 7, 0, 1, 1, 0, 1, 0, 1, -5, 1, -3,
+            3, 0, 5, 1, 7, 0, 7, 1, 0, 1, 0, 1, 3, 0, 2, 1, 5, 0, -10, 3, -20, 1, 6, 0, -20, 1, -8, 1, -28,
+            4, 0, 9, 0, 0, 4, 0, 0, 9, 0, 2, 0, 1, 6, 0, 1, 2, 7, 5, 9, 12, 0, 3, 1, 7, 0, -4, 1, 6, 0, 0, 0, 0, 1, -6]
+
+EVERY = (OPEN, LINE, MADE, USED, FLOW, RATE, FEE, EXCESSES, RINGLESS, MIX, ENDS, FROM, OVER, LOST, WEIGHT, WEIGHTS,
+         FEES, FEES_OF_USE, WAYS, LINE_IS, STATE)
 
 
 class Lists(unittest.TestCase):
@@ -73,7 +80,7 @@ class DrawnCalls(unittest.TestCase):
         return draw.number(low, min(high, low + 3))
 
     def drawn_call(self, draw):
-        place = draw.one_of([OPEN, LINE, LINE, MADE, USED, FLOW, FLOW, RATE, FEE, EXCESSES, RINGLESS, MIX, ENDS])
+        place = draw.one_of(EVERY + (LINE, FLOW))
         return (place,) + tuple(self.drawn_number(draw, low, high) for low, high in Reckoning.BOUNDS[place])
 
     def test_as_reckoned(self):
@@ -86,19 +93,25 @@ class DrawnCalls(unittest.TestCase):
 
     def test_small_houses_as_reckoned(self):
         draw = Draw(5)
-        told_mixtures = 0
-        for _ in range(200):
+        accepted = dict.fromkeys(EVERY, 0)
+        for _ in range(300):
             calls = [(OPEN, 2), (LINE, 1, 2), (LINE, 2, 1)]
             while len(calls) < 200:
                 calls.append(draw.one_of([
                     (MADE, draw.number(1, 3), draw.number(0, 1)), (USED, draw.number(1, 3), draw.number(0, 1)),
                     (FLOW, draw.number(1, 3), draw.number(0, 1), draw.number(0, 1)),
-                    (MIX, draw.number(1, 3)), (ENDS, draw.number(1, 3)), (EXCESSES,), (RINGLESS,),
+                    (RATE, draw.number(1, 3), draw.number(-3, 3)), (FEE, draw.number(1, 3), draw.number(0, 3)),
+                    self.asking(draw), self.asking(draw), self.asking(draw),
                 ]))
             found = ask(*calls)
             self.assertEqual(found, reckoned(*calls))
-            told_mixtures += sum(call[0] in (MIX, ENDS) and answer[0] == 0 for call, answer in zip(calls, found))
-        self.assertGreater(told_mixtures, 100)
+            for call, answer in zip(calls, found):
+                accepted[call[0]] += answer[0] == 0
+        self.assertGreater(min(accepted[place] for place in EVERY), 50)
+
+    def asking(self, draw):
+        place = draw.one_of(EVERY[EXCESSES:])
+        return (place,) + tuple(draw.number(1, 3) for _ in Reckoning.BOUNDS[place])
 
     def test_the_greatest_amounts_as_reckoned(self):
         draw = Draw(11)
@@ -107,7 +120,7 @@ class DrawnCalls(unittest.TestCase):
             for number in range(1, 13):
                 calls.append((LINE, draw.number(1, 8), draw.number(1, 8)))
                 calls.append((FLOW, number, GREATEST, draw.number(0, GREATEST)))
-            calls += [(EXCESSES,), (RINGLESS,), (MIX, 1), (ENDS, 1)]
+            calls += [(place,) + (1,) * len(Reckoning.BOUNDS[place]) for place in EVERY[EXCESSES:]]
             self.assertEqual(ask(*calls), reckoned(*calls))
 
 

@@ -4,10 +4,9 @@ import unittest
 from fractions import Fraction as F
 
 from tests.asking import (
-    ENDS, FEE, FLOW, GREATEST, LINE, MADE, MIX, OPEN, RATE, USED, Draw, ask, drawn_sound_net, last, net, reckoned, told,
+    BIG_PRIMES, ENDS, FEE, FLOW, GREATEST, LINE, MADE, MIX, OPEN, RATE, USED,
+    Draw, ask, drawn_sound_net, fractions, last, net, reckoned, told,
 )
-
-BIG_PRIMES = (999999937, 999999929, 999999893, 999999883, 999999797, 999999761, 999999757, 999999751)
 
 
 class Refusals(unittest.TestCase):
@@ -244,13 +243,6 @@ class Asking(unittest.TestCase):
 
 
 class DrawnNets(unittest.TestCase):
-    def fractions(self, answer):
-        self.assertEqual(answer[0], 0)
-        pairs = list(zip(answer[1::2], answer[2::2], strict=True))
-        for pair in pairs:
-            self.assertEqual((F(*pair).numerator, F(*pair).denominator), pair)
-        return [F(*pair) for pair in pairs]
-
     def test_as_reckoned_and_up_as_down(self):
         draw = Draw(7)
         for greatest in [3, 12, 1000, GREATEST] * 60:
@@ -261,8 +253,8 @@ class DrawnNets(unittest.TestCase):
             self.assertEqual(found, reckoned(*asked), calls)
             made = {call[1]: call[2] for call in calls if call[0] == MADE}
             used = {call[1]: call[2] for call in calls if call[0] == USED}
-            shares = [self.fractions(answer) for answer in found[len(calls):len(calls) + len(nodes)]]
-            ends = [self.fractions(answer) for answer in found[len(calls) + len(nodes):]]
+            shares = [fractions(answer) for answer in found[len(calls):len(calls) + len(nodes)]]
+            ends = [fractions(answer) for answer in found[len(calls) + len(nodes):]]
             for a in nodes:
                 self.assertIn(sum(shares[a - 1]), (0, 1))
                 for b in nodes:

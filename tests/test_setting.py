@@ -2,13 +2,9 @@
 
 import unittest
 
-from currenthouse.house import answer_call
-from currenthouse.net import Net
 from tests.asking import (
-    ENDS, EXCESSES, FEE, FLOW, GREATEST, LINE, MADE, MIX, OPEN, RATE, RINGLESS, USED, ask, last,
+    ENDS, EXCESSES, FAR, FEE, FLOW, GREATEST, LINE, LINE_IS, MADE, MIX, OPEN, RATE, RINGLESS, STATE, USED, ask, last,
 )
-
-FAR = 10 ** 18
 
 
 class Open(unittest.TestCase):
@@ -182,49 +178,38 @@ class Flow(unittest.TestCase):
 
 
 class RateAndFee(unittest.TestCase):
-    """What they set shows in no answer of these calls, so what's kept is looked at."""
+    HOUSE = ((OPEN, 3), (LINE, 1, 2), (LINE, 2, 3))
 
-    def house(self):
-        net = Net()
-        for place, arguments in [(OPEN, [3]), (LINE, [1, 2]), (LINE, [2, 3])]:
-            answer_call(net, place, arguments)
-        return net
-
-    def kept(self, net):
-        return [net.rates[node] for node in (1, 2, 3)], [line.fee for line in net.lines]
+    def kept(self, *calls):
+        """What these calls leave: the three nodes' rates and the two lines' fees."""
+        first, second, state = ask(*self.HOUSE, *calls, (LINE_IS, 1), (LINE_IS, 2), (STATE,))[-3:]
+        return state[5::3], [first[5], second[5]]
 
     def test_0_at_first(self):
-        self.assertEqual(self.kept(self.house()), ([0, 0, 0], [0, 0]))
+        self.assertEqual(self.kept(), ([0, 0, 0], [0, 0]))
 
     def test_the_edges_of_rate(self):
         for rate in (-1000000, -1, 0, 1, 1000000):
-            net = self.house()
-            self.assertEqual(answer_call(net, RATE, [3, rate]), [0])
-            self.assertEqual(self.kept(net), ([0, 0, rate], [0, 0]))
+            self.assertEqual(last(*self.HOUSE, (RATE, 3, rate)), [0])
+            self.assertEqual(self.kept((RATE, 3, rate)), ([0, 0, rate], [0, 0]))
 
     def test_the_edges_of_fee(self):
         for fee in (0, 1, 10 ** 12 - 1, 10 ** 12):
-            net = self.house()
-            self.assertEqual(answer_call(net, FEE, [2, fee]), [0])
-            self.assertEqual(self.kept(net), ([0, 0, 0], [0, fee]))
+            self.assertEqual(last(*self.HOUSE, (FEE, 2, fee)), [0])
+            self.assertEqual(self.kept((FEE, 2, fee)), ([0, 0, 0], [0, fee]))
 
     def test_the_later_one_holds(self):
-        net = self.house()
-        for place, arguments in [(RATE, [1, 5]), (RATE, [1, -6]), (FEE, [1, 7]), (FEE, [1, 2])]:
-            self.assertEqual(answer_call(net, place, arguments), [0])
-        self.assertEqual(self.kept(net), ([-6, 0, 0], [2, 0]))
+        self.assertEqual(self.kept((RATE, 1, 5), (RATE, 1, -6), (FEE, 1, 7), (FEE, 1, 2)), ([-6, 0, 0], [2, 0]))
 
     def test_a_refused_one_changes_nothing(self):
-        refused = [(RATE, [1, 1000001], -1), (RATE, [1, -1000001], -1), (RATE, [0, 1], -1), (RATE, [9, 1], -1),
-                   (RATE, [4, 1], -5), (RATE, [8, 1], -5), (RATE, [4, 1000001], -1),
-                   (FEE, [1, -1], -1), (FEE, [1, 10 ** 12 + 1], -1), (FEE, [0, 1], -1), (FEE, [13, 1], -1),
-                   (FEE, [3, 1], -6), (FEE, [12, 1], -6), (FEE, [3, -1], -1)]
-        for place, arguments, refusal in refused:
-            net = self.house()
-            answer_call(net, RATE, [1, 5])
-            answer_call(net, FEE, [1, 6])
-            self.assertEqual(answer_call(net, place, arguments), [refusal], (place, arguments))
-            self.assertEqual(self.kept(net), ([5, 0, 0], [6, 0]))
+        refused = {(RATE, 1, 1000001): -1, (RATE, 1, -1000001): -1, (RATE, 0, 1): -1, (RATE, 9, 1): -1,
+                   (RATE, 4, 1): -5, (RATE, 8, 1): -5, (RATE, 4, 1000001): -1,
+                   (FEE, 1, -1): -1, (FEE, 1, 10 ** 12 + 1): -1, (FEE, 0, 1): -1, (FEE, 13, 1): -1,
+                   (FEE, 3, 1): -6, (FEE, 12, 1): -6, (FEE, 3, -1): -1}
+        before = ((RATE, 1, 5), (FEE, 1, 6))
+        for call, refusal in refused.items():
+            self.assertEqual(last(*self.HOUSE, *before, call), [refusal], call)
+            self.assertEqual(self.kept(*before, call), ([5, 0, 0], [6, 0]), call)
 
     def test_through_the_interface(self):
         self.assertEqual(ask((OPEN, 2), (RATE, 2, -1000000), (RATE, 3, 0), (RATE, 2, 1000001), (FEE, 1, 0),
@@ -232,11 +217,9 @@ class RateAndFee(unittest.TestCase):
                          [[0], [0], [-5], [-1], [-6], [0, 1], [0], [-1], [-6]])
 
     def test_a_second_opening_keeps_them(self):
-        net = self.house()
-        answer_call(net, RATE, [1, 5])
-        answer_call(net, FEE, [1, 6])
-        self.assertEqual(answer_call(net, OPEN, [3]), [-3])
-        self.assertEqual(self.kept(net), ([5, 0, 0], [6, 0]))
+        before = ((RATE, 1, 5), (FEE, 1, 6), (OPEN, 3))
+        self.assertEqual(last(*self.HOUSE, *before), [-3])
+        self.assertEqual(self.kept(*before), ([5, 0, 0], [6, 0]))
 
     def test_neither_has_to_do_with_the_flow(self):
         sound = [(OPEN, 2), (MADE, 1, 3), (LINE, 1, 2), (FLOW, 1, 3, 2), (USED, 2, 2)]
